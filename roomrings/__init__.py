@@ -1,0 +1,1 @@
+"""Roomrings: moves in a tree of limits, and the rings that bar them."""
