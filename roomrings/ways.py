@@ -48,3 +48,9 @@ def uses_of(tree, counts):
 def overfull(tree, counts):
     """The folders that use more than their room if so many files lie in each of them directly."""
     return tuple([row[0] for row, many in zip(tree, uses_of(tree, counts)) if many > row[2]])
+
+
+def entered_between(parents, source, target):
+    """The set of the folders that are around target and not around source."""
+    behind = way_from(parents, source)
+    return tuple(sorted([name for name in way_from(parents, target) if name not in behind]))
