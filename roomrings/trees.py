@@ -70,7 +70,7 @@ class Tree:
 
     def __add__(self, other):
         if not is_folder(other) or other[0] in self._names or not has_spot(self._tree, other[1]):
-            raise NotUsable("row", other)
+            raise NotUsable("row", -1)
         rows = sorted([*self._tree, other])
         return Tree(*rows)
 

@@ -123,7 +123,7 @@ class Trees(unittest.TestCase):
     def test_plus_no_row(self):
         for thing in [*THINGS, ('top', '', 1), ('x', 'y', 1), ('x', 'x', 1), ('a', '', 1), ['x', '', 1], ('x', '', True),
                       ('x', 'z', 1), ('x', '', -1), ('', 'a', 1), ('x', ''), ('x', '', 1, 1), self.one, TREE[0]]:
-            refuses(self, NotUsable, {'word': 'row', 'at': thing}, add, self.one, thing)
+            refuses(self, NotUsable, {'word': 'row', 'at': -1}, add, self.one, thing)
 
     def test_plus_each_value_in_each_place_of_a_row(self):
         for thing in ODD:
@@ -133,7 +133,7 @@ class Trees(unittest.TestCase):
                 if is_row:
                     self.assertEqual((self.one + row).tree, tuple(sorted((*TREE, row))))
                 else:
-                    refuses(self, NotUsable, {'word': 'row', 'at': row}, add, self.one, row)
+                    refuses(self, NotUsable, {'word': 'row', 'at': -1}, add, self.one, row)
 
     def test_minus(self):
         less = self.one - 'a'
@@ -232,7 +232,7 @@ class Trees(unittest.TestCase):
             row = (pick.choice([*plain.SIX, 'q']), pick.choice(['', *plain.SIX]), pick.randrange(3))
             longer = tuple(sorted((*tree, row)))
             if plain.tree_fault((row,)) == ('folder', 0) or row[0] in names or plain.tree_fault(longer):
-                refuses(self, NotUsable, {'word': 'row', 'at': row}, add, one, row)
+                refuses(self, NotUsable, {'word': 'row', 'at': -1}, add, one, row)
             else:
                 self.assertEqual((one + row).tree, longer)
                 self.assertEqual(one + row - row[0], one)
