@@ -3,7 +3,7 @@
 from roomrings.lotchecker import need_move, need_moves
 from roomrings.treechecker import need_tree
 from roomrings.treeparts import need_folder
-from roomrings.ways import entered_between, parents_of
+from roomrings.ways import entered_between, entries, parents_of, turned_about
 
 
 def entered(tree, move):
@@ -26,8 +26,7 @@ def entering(tree, lot, folder):
     need_tree(tree)
     need_moves(tree, lot)
     need_folder(tree, folder)
-    parents = parents_of(tree)
-    return len([source for source, target in lot if folder in entered_between(parents, source, target)])
+    return entries(parents_of(tree), lot, folder)
 
 
 def leaving(tree, lot, folder):
@@ -35,5 +34,4 @@ def leaving(tree, lot, folder):
     need_tree(tree)
     need_moves(tree, lot)
     need_folder(tree, folder)
-    parents = parents_of(tree)
-    return len([source for source, target in lot if folder in entered_between(parents, target, source)])
+    return entries(parents_of(tree), turned_about(lot), folder)

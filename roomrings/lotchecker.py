@@ -23,6 +23,13 @@ def need_lot(tree, stand, lot):
         raise NotUsable("lot", -1)
 
 
+def need_all(tree, stand, lot):
+    """NotUsable for the first of tree, stand and lot that cannot be used."""
+    need_tree(tree)
+    need_stand(tree, stand)
+    need_lot(tree, stand, lot)
+
+
 def need_moves(tree, lot):
     """NotUsable for any value that is no sorted tuple of moves between spots of the tree."""
     if moves_fault(tree, lot) is not None:

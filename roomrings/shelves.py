@@ -8,6 +8,7 @@ from roomrings.treechecker import need_tree
 from roomrings.treeparts import need_folder, way_up
 from roomrings.treereadings import stand_read
 from roomrings.treetexts import stand_words
+from roomrings.ways import counts_after
 
 
 class Shelf:
@@ -71,16 +72,11 @@ class Shelf:
         need_folder(self._tree, other)
         if any([name in self._full for name in way_up(self._tree, other)]):
             raise NotUsable("folder", other)
-        numbers = counts_with(self._tree, self._stand, other, 1)
+        numbers = counts_after(self._tree, self._stand, [("", other)])
         return Shelf(self._tree, *numbers)
 
     def __sub__(self, other):
         if files_in(self._tree, self._stand, other) == 0:
             raise NotUsable("folder", other)
-        numbers = counts_with(self._tree, self._stand, other, -1)
+        numbers = counts_after(self._tree, self._stand, [(other, "")])
         return Shelf(self._tree, *numbers)
-
-
-def counts_with(tree, stand, folder, more):
-    """How many files lie in each folder directly if there are so many more in this one."""
-    return tuple([many + more if row[0] == folder else many for row, many in zip(tree, stand)])

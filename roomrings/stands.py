@@ -3,7 +3,7 @@
 from roomrings.standchecker import need_stand
 from roomrings.treechecker import need_tree
 from roomrings.treeparts import need_folder
-from roomrings.ways import names_of, uses_of
+from roomrings.ways import full_of, names_of, uses_of
 
 
 def files_in(tree, stand, folder):
@@ -35,4 +35,4 @@ def full_folders(tree, stand):
     """The set of the full folders."""
     need_tree(tree)
     need_stand(tree, stand)
-    return tuple([row[0] for row, many in zip(tree, uses_of(tree, stand)) if many == row[2]])
+    return full_of(tree, stand)

@@ -17,6 +17,14 @@ def has_spot(tree, thing):
     return is_spot(thing) and (thing == "" or thing in names_of(tree))
 
 
+def has_folders(tree, thing):
+    """Whether any value is a set of folders of the tree."""
+    if not isinstance(thing, tuple) or not all([is_name(name) for name in thing]):
+        return False
+    names = names_of(tree)
+    return list(thing) == sorted(set(thing)) and all([name in names for name in thing])
+
+
 def room_of(tree, folder):
     """The room of a folder."""
     need_tree(tree)

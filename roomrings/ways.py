@@ -50,6 +50,41 @@ def overfull(tree, counts):
     return tuple([row[0] for row, many in zip(tree, uses_of(tree, counts)) if many > row[2]])
 
 
+def full_of(tree, counts):
+    """The set of the folders that use just their room if so many files lie in each of them directly."""
+    return tuple([row[0] for row, many in zip(tree, uses_of(tree, counts)) if many == row[2]])
+
+
+def counts_shifted(tree, counts, bulks):
+    """How many files lie in each folder directly after such moves, each so often, whether they can go or not."""
+    brought = [(target, times) for source, target, times in bulks]
+    taken = [(source, -times) for source, target, times in bulks]
+    changes = brought + taken
+    return tuple([many + sum([change for spot, change in changes if spot == row[0]])
+                  for row, many in zip(tree, counts)])
+
+
+def counts_after(tree, counts, moves):
+    """How many files lie in each folder directly after these moves, whether they can go or not."""
+    return counts_shifted(tree, counts, [(source, target, 1) for source, target in moves])
+
+
+def without_one(moves, move):
+    """A tuple of moves with one of them once less."""
+    k = moves.index(move)
+    return moves[:k] + moves[k + 1:]
+
+
+def entries(parents, moves, folder):
+    """How many of these moves enter a folder."""
+    return len([source for source, target in moves if folder in entered_between(parents, source, target)])
+
+
+def turned_about(moves):
+    """A list of these moves, each from its target to its source."""
+    return [(target, source) for source, target in moves]
+
+
 def entered_between(parents, source, target):
     """The set of the folders that are around target and not around source."""
     behind = way_from(parents, source)

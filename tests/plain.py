@@ -127,3 +127,152 @@ def broken(pick, thing, odd):
     if way == 2:
         return thing[::-1]
     return (*thing[:k], broken(pick, thing[k], odd), *thing[k + 1:])
+
+
+def entered(tree, move):
+    source, target = move
+    return [name for name in around(tree, target) if name not in around(tree, source)]
+
+
+def left_by(tree, move):
+    return entered(tree, move[::-1])
+
+
+def places(tree, stand):
+    """How many free places each folder has."""
+    return {name: room - uses(tree, stand, name) for name, _, room in tree}
+
+
+def full(tree, stand):
+    return [name for name, many in places(tree, stand).items() if many == 0]
+
+
+def lying(tree, stand, spot):
+    """How many files lie in a spot directly; outside there is always one."""
+    return dict(zip([row[0] for row in tree], stand)).get(spot, 1)
+
+
+def can_go(tree, stand, move):
+    free = places(tree, stand)
+    return lying(tree, stand, move[0]) > 0 and all(free[name] > 0 for name in entered(tree, move))
+
+
+def after(tree, stand, move):
+    """What lies in each folder after a move, whether it can go or not."""
+    source, target = move
+    return tuple(many - (row[0] == source) + (row[0] == target) for row, many in zip(tree, stand))
+
+
+def at_end(tree, stand, lot):
+    for move in lot:
+        stand = after(tree, stand, move)
+    return stand
+
+
+def crowded(tree, counts):
+    return tuple(row[0] for row in tree if uses(tree, counts, row[0]) > row[2])
+
+
+def less(lot, move):
+    """The moves with one of them once less."""
+    lot = list(lot)
+    lot.remove(move)
+    return tuple(lot)
+
+
+def some_order(tree, stand, lot):
+    """An order that goes, looked for among all; None if there is none."""
+    dead = set()
+
+    def look(now, left):
+        if not left:
+            return ()
+        if left in dead:
+            return None
+        for move in sorted(set(left)):
+            if can_go(tree, now, move):
+                rest = look(after(tree, now, move), less(left, move))
+                if rest is not None:
+                    return move, *rest
+        dead.add(left)
+        return None
+
+    return look(stand, tuple(lot))
+
+
+def first_refused(tree, stand, order):
+    """The index of the first move that cannot go, None if all can."""
+    for k, move in enumerate(order):
+        if not can_go(tree, stand, move):
+            return k
+        stand = after(tree, stand, move)
+    return None
+
+
+def is_ring(tree, stand, lot, names):
+    """Whether a set of folders is a ring, word by word."""
+    filled = full(tree, stand)
+    if not names or any(name not in filled for name in names):
+        return False
+    if any(name != other and name in around(tree, other) for name in names for other in names):
+        return False
+    crossed = set()
+    for move in lot:
+        out = [name for name in left_by(tree, move) if name in names]
+        inward = [name for name in entered(tree, move) if name in names]
+        if out or inward:
+            if not out or not inward:
+                return False
+            crossed.update(out, inward)
+    return crossed == set(names)
+
+
+def all_rings(tree, stand, lot):
+    """All rings, found among all sets of folders."""
+    names = [row[0] for row in tree]
+    sets = [tuple(name for k, name in enumerate(names) if code >> k & 1) for code in range(1 << len(names))]
+    return [names for names in sets if is_ring(tree, stand, lot, names)]
+
+
+def is_under(tree, ring, other):
+    """Whether each folder of a ring is within a folder of another one."""
+    return all(any(above in other for above in around(tree, name)) for name in ring)
+
+
+def greatest(tree, rings):
+    for ring in rings:
+        if all(is_under(tree, other, ring) for other in rings):
+            return ring
+    return ()
+
+
+def inner(tree, rings):
+    return tuple(sorted(ring for ring in rings
+                        if not any(other != ring and is_under(tree, other, ring) for other in rings)))
+
+
+def some_case(pick, names=SIX[:4], most=6):
+    """A random tree with little room, a stand of it, and a lot of this stand, in which files often change places."""
+    chosen = pick.sample(names, pick.randrange((len(names) + 1) // 2, len(names) + 1))
+    shape = sorted((name, pick.choice(['', '', *chosen[:k]])) for k, name in enumerate(chosen))
+    stand = tuple(pick.choice((0, 1, 1, 1, 2)) for _ in shape)
+    wide = tuple((*row, 0) for row in shape)
+    slack = pick.choice(((0,), (0,), (0, 0, 0, 0, 1), (0, 1, 2)))
+    tree = tuple((*row, uses(wide, stand, row[0]) + pick.choice(slack)) for row in shape)
+    spots = [*chosen, *chosen, '']
+    lot = ()
+    for _ in range(pick.randrange(6)):
+        round_about = pick.sample(spots, min(len(spots), pick.choice((2, 2, 3, 3, 4))))
+        for move in list(zip(round_about, [*round_about[1:], round_about[0]]))[pick.choice((0, 0, 0, 0, 1)):]:
+            longer = tuple(sorted([*lot, move]))
+            if len(lot) < most and lot_fault(tree, stand, longer) is None:
+                lot = longer
+    return tree, stand, lot
+
+
+def some_fitting(pick, names=SIX[:4], most=6):
+    """Such a random tree, stand and lot whose end fits."""
+    while True:
+        tree, stand, lot = some_case(pick, names, most)
+        if not crowded(tree, at_end(tree, stand, lot)):
+            return tree, stand, lot

@@ -1,10 +1,20 @@
 """Values and helpers that the tests share."""
 
 import inspect
+import random
+
+import plain
+
+from roomrings.errors import NotUsable
 
 TREE = (('a', 'top', 2), ('b', 'top', 1), ('c', '', 1), ('top', '', 3))
 STAND = (1, 1, 1, 0)
 LOT = (('a', 'b'), ('b', 'c'), ('c', 'a'))
+STUCK = (('a', 'top', 2), ('b', 'top', 1), ('c', '', 1), ('top', '', 2))
+DEEP, FULL, SWAP = (('a', 'p', 1), ('b', 'q', 1), ('p', '', 1), ('q', '', 1)), (1, 1, 0, 0), (('a', 'b'), ('b', 'a'))
+FOUR = (('a', '', 1), ('b', '', 1), ('c', '', 1), ('d', '', 1))
+TWICE = (('a', 'b'), ('b', 'a'), ('c', 'd'), ('d', 'c'))
+NEAR, BOTH, LATE = (('a', '', 1), ('b', '', 1)), (1, 1), (('', 'a'), ('a', 'b'), ('b', 'a'))
 BIG = 10 ** 60 - 1
 
 
@@ -83,3 +93,36 @@ def parameters(call):
 def by_name_turned(call, names, args):
     """Calls with all arguments by name, the last one first."""
     return call(**dict(reversed(list(zip(names, args)))))
+
+
+# What the parameters are refused with, beside TREE, STAND and LOT; None for a value that can be used.
+FAULTS = {
+    'tree': lambda thing: plain.tree_fault(thing) and ('tree', -1),
+    'stand': lambda thing: plain.stand_fault(TREE, thing) and ('stand', -1),
+    'lot': lambda thing: plain.lot_fault(TREE, STAND, thing) and ('lot', -1),
+    'move': lambda thing: None if plain.is_plain_move(TREE, thing) else ('move', thing),
+}
+ALMOST = [LOT[::-1], (('c', 'a'), ('c', 'b')), (('a', 'x'),), (('', 'x'),), ('a', 'x'), ('x', 'a'), (2, 1, 1, 1),
+        (1, 1, 1, -1), (0, 2, 0, 0), (*TREE[:3], ('top', 'a', 3)), (*TREE, ('z', 'y', 1))]
+
+
+def refuses_each(case, call, *args):
+    """NotUsable for each wrong value of each parameter, also where all behind it are wrong, by position and by name."""
+    names = parameters(call)
+    case.assertEqual(len(names), len(args))
+    for k, name in enumerate(names):
+        if name in FAULTS:
+            for thing in [*ODD, *ALMOST]:
+                found = FAULTS[name](thing)
+                if found:
+                    fields = {'word': found[0], 'at': found[1]}
+                    refuses(case, NotUsable, fields, call, *args[:k], thing, *args[k + 1:])
+                    wrong = [*args[:k], thing, *[None] * (len(args) - k - 1)]
+                    refuses(case, NotUsable, fields, call, **dict(reversed(list(zip(names, wrong)))))
+
+
+def small_cases(seed, many, make=plain.some_case, *limits):
+    """So many random trees, each with a stand and a lot of it."""
+    pick = random.Random(seed)
+    for _ in range(many):
+        yield make(pick, *limits)
