@@ -276,3 +276,55 @@ def some_fitting(pick, names=SIX[:4], most=6):
         tree, stand, lot = some_case(pick, names, most)
         if not crowded(tree, at_end(tree, stand, lot)):
             return tree, stand, lot
+
+
+def some_earlier(pick, names=SIX[:4], most=6):
+    """Such a random tree, stand and lot, as they were ahead of one more move, often one after which there is a ring."""
+    while True:
+        tree, stand, lot = some_fitting(pick, names, most)
+        source, target = pick.sample(['', *[row[0] for row in tree]], 2)
+        before, longer = after(tree, stand, (target, source)), tuple(sorted([*lot, (source, target)]))
+        good = stand_fault(tree, before) is None and lot_fault(tree, before, longer) is None
+        if good and (all_rings(tree, stand, lot) or pick.random() < 0.1):
+            return tree, before, longer
+
+
+def step_taken(tree, state, step):
+    """What is left, what is away, and the stand after a step; None if the step is not possible then."""
+    left, away, stand = state
+    if step.__class__ is not tuple or len(step) != 3 or step[0].__class__ is not str:
+        return None
+    word, move = step[0], step[1:]
+    if not is_plain_move(tree, move):
+        return None
+    if word == 'go' and move in left and can_go(tree, stand, move):
+        return less(left, move), away, after(tree, stand, move)
+    if word == 'out' and move in left and '' not in move:
+        return less(left, move), tuple(sorted([*away, move])), after(tree, stand, (move[0], ''))
+    # from outside it enters all folders around its target
+    if word == 'in' and move in away and can_go(tree, stand, ('', move[1])):
+        return left, less(away, move), after(tree, stand, ('', move[1]))
+    return None
+
+
+def fewest_outs(tree, stand, lot):
+    """The least number of steps "out" of a plan, looked for among all plans; None if there is no plan."""
+    ahead, outs = [(tuple(lot), (), stand)], 0
+    met = set()
+    while ahead:
+        later = []
+        while ahead:
+            state = ahead.pop()
+            if state in met:
+                continue
+            met.add(state)
+            left, away, _ = state
+            if not left and not away:
+                return outs
+            for step in [(word, *move) for word, moves in (('go', left), ('out', left), ('in', away))
+                         for move in set(moves)]:
+                found = step_taken(tree, state, step)
+                if found is not None:
+                    (later if step[0] == 'out' else ahead).append(found)
+        ahead, outs = later, outs + 1
+    return None

@@ -121,6 +121,13 @@ def refuses_each(case, call, *args):
                     refuses(case, NotUsable, fields, call, **dict(reversed(list(zip(names, wrong)))))
 
 
+def takes_arguments(case, call, *args):
+    """The call is the same by position and by name in another order, and refuses wrong values of its parameters."""
+    by_name = by_name_turned(call, parameters(call), args)
+    case.assertEqual(repr(by_name), repr(call(*args)))
+    refuses_each(case, call, *args)
+
+
 def small_cases(seed, many, make=plain.some_case, *limits):
     """So many random trees, each with a stand and a lot of it."""
     pick = random.Random(seed)

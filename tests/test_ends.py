@@ -4,7 +4,7 @@ import itertools
 import unittest
 
 import plain
-from support import BIG, LOT, STAND, TREE, by_name_turned, gives, parameters, refuses_each, small_cases
+from support import BIG, LOT, STAND, TREE, gives, parameters, small_cases, takes_arguments
 
 from roomrings.crossings import entered, entering, leaving, left_by
 from roomrings.ends import end_counts, fits, misfits
@@ -81,14 +81,9 @@ class Ends(unittest.TestCase):
         gives(self, True, fits, tree, stand, lot)
         gives(self, ('a',), misfits, tree, stand, (('', 'a'),) * 13 + lot[12:])
 
-    def test_by_name(self):
+    def test_arguments(self):
         for call in ENDS:
-            self.assertEqual(by_name_turned(call, ['tree', 'stand', 'lot'], [TREE, STAND, MORE]),
-                             call(TREE, STAND, MORE))
-
-    def test_wrong_arguments(self):
-        for call in ENDS:
-            refuses_each(self, call, TREE, STAND, LOT)
+            takes_arguments(self, call, TREE, STAND, LOT)
 
 
 if __name__ == '__main__':

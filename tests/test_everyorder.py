@@ -4,7 +4,7 @@ import itertools
 import unittest
 
 import plain
-from support import BIG, LOT, STAND, TREE, by_name_turned, gives, parameters, refuses_each, small_cases
+from support import BIG, LOT, STAND, TREE, gives, parameters, small_cases, takes_arguments
 
 from roomrings.crossings import entering
 from roomrings.ends import end_counts, fits
@@ -142,14 +142,9 @@ class EveryOrder(unittest.TestCase):
         turned = tuple(sorted((names[-1], name) for name in names[:11]))
         gives(self, (BIG + 1,) * 11 + (BIG - 24,), room_for_every, tree, stand, turned)
 
-    def test_by_name(self):
+    def test_arguments(self):
         for call in CALLS:
-            self.assertEqual(by_name_turned(call, ['tree', 'stand', 'lot'], [TREE, STAND, LOT]),
-                             call(TREE, STAND, LOT))
-
-    def test_wrong_arguments(self):
-        for call in CALLS:
-            refuses_each(self, call, TREE, STAND, LOT)
+            takes_arguments(self, call, TREE, STAND, LOT)
 
 
 if __name__ == '__main__':

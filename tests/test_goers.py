@@ -5,8 +5,8 @@ import random
 import unittest
 
 import plain
-from support import (BIG, BOTH, DEEP, FULL, LATE, LOT, NEAR, STAND, STUCK, SWAP, TREE, by_name_turned, gives,
-                     parameters, refuses_each, small_cases)
+from support import (BIG, BOTH, DEEP, FULL, LATE, LOT, NEAR, STAND, STUCK, SWAP, TREE, gives,
+                     parameters, small_cases, takes_arguments)
 
 from roomrings.goers import all_go, an_order
 from roomrings.lotpapers import lot_paper
@@ -102,7 +102,9 @@ class Goers(unittest.TestCase):
         self.assertGreater(min(words.count(word) for word in ('order', 'ring', 'end')), 50)
 
     def test_against_a_search_over_larger_lots(self):
-        for tree, stand, lot in small_cases(81, 500, plain.some_fitting, plain.SIX, 9):
+        cases = [*small_cases(81, 300, plain.some_fitting, plain.SIX, 9),
+                 *small_cases(83, 150, plain.some_earlier, plain.SIX[:5], 8)]
+        for tree, stand, lot in cases:
             found = plain.some_order(tree, stand, lot)
             gives(self, found is not None, all_go, tree, stand, lot)
             gives(self, found is None, lambda *args: greatest_ring(*args) != (), tree, stand, lot)
@@ -146,14 +148,9 @@ class Goers(unittest.TestCase):
             self.check_order(tree, stand, lot, an_order(tree, stand, lot))
         gives(self, None, an_order, tree, (BIG,) * 12, lot)
 
-    def test_by_name(self):
+    def test_arguments(self):
         for call in CALLS:
-            self.assertEqual(by_name_turned(call, ['tree', 'stand', 'lot'], [TREE, STAND, LOT]),
-                             call(TREE, STAND, LOT))
-
-    def test_wrong_arguments(self):
-        for call in CALLS:
-            refuses_each(self, call, TREE, STAND, LOT)
+            takes_arguments(self, call, TREE, STAND, LOT)
 
 
 if __name__ == '__main__':

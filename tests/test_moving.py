@@ -4,7 +4,7 @@ import itertools
 import unittest
 
 import plain
-from support import BIG, LOT, ODD, STAND, TREE, by_name_turned, gives, parameters, refuses, refuses_each, small_cases
+from support import BIG, LOT, ODD, STAND, TREE, gives, parameters, refuses, small_cases, takes_arguments
 
 from roomrings.errors import NotUsable
 from roomrings.moving import after_move, after_moves, can_move, movable
@@ -129,18 +129,11 @@ class Moving(unittest.TestCase):
                 refuses(self, NotUsable, {'word': 'moves', 'at': 1}, after_moves, TREE, STAND,
                         (('c', 'a'), thing, ('a', 'b')))
 
-    def test_by_name(self):
-        names = ['tree', 'stand', 'move']
-        self.assertIs(by_name_turned(can_move, names, [TREE, STAND, ('c', 'a')]), True)
-        self.assertEqual(by_name_turned(after_move, names, [TREE, STAND, ('c', 'a')]), (2, 1, 0, 0))
-        self.assertEqual(by_name_turned(movable, ['tree', 'stand', 'lot'], [TREE, STAND, LOT]), (('c', 'a'),))
-        self.assertEqual(by_name_turned(after_moves, ['tree', 'stand', 'moves'], [TREE, STAND, GOOD]), STAND)
-
-    def test_wrong_arguments(self):
-        refuses_each(self, can_move, TREE, STAND, ('c', 'a'))
-        refuses_each(self, after_move, TREE, STAND, ('c', 'a'))
-        refuses_each(self, movable, TREE, STAND, LOT)
-        refuses_each(self, after_moves, TREE, STAND, GOOD)
+    def test_arguments(self):
+        takes_arguments(self, can_move, TREE, STAND, ('c', 'a'))
+        takes_arguments(self, after_move, TREE, STAND, ('c', 'a'))
+        takes_arguments(self, movable, TREE, STAND, LOT)
+        takes_arguments(self, after_moves, TREE, STAND, GOOD)
 
 
 if __name__ == '__main__':

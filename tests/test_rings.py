@@ -5,7 +5,7 @@ import unittest
 
 import plain
 from support import (BIG, BOTH, DEEP, FOUR, FULL, LATE, LOT, NEAR, ODD, STAND, STUCK, SWAP, TREE, TWICE, Other,
-                     by_name_turned, gives, parameters, refuses, refuses_each, small_cases)
+                     gives, parameters, refuses, small_cases, takes_arguments)
 
 from roomrings.ends import end_counts
 from roomrings.errors import NotUsable
@@ -193,16 +193,11 @@ class Rings(unittest.TestCase):
         pairs = tuple(sorted([*zip(names[::2], names[1::2]), *zip(names[1::2], names[::2])]))
         gives(self, tuple(zip(names[::2], names[1::2])), inner_rings, tree, (BIG,) * 12, pairs)
 
-    def test_by_name(self):
-        names = ['tree', 'stand', 'lot', 'thing']
-        self.assertIs(by_name_turned(is_ring, names, [NEAR, BOTH, SWAP, ('a', 'b')]), True)
-        self.assertEqual(by_name_turned(greatest_ring, names, [NEAR, BOTH, SWAP]), ('a', 'b'))
-        self.assertEqual(by_name_turned(inner_rings, names, [NEAR, BOTH, SWAP]), (('a', 'b'),))
-
-    def test_wrong_arguments(self):
-        refuses_each(self, is_ring, TREE, STAND, LOT, ('b', 'c'))
-        refuses_each(self, greatest_ring, TREE, STAND, LOT)
-        refuses_each(self, inner_rings, TREE, STAND, LOT)
+    def test_arguments(self):
+        takes_arguments(self, is_ring, TREE, STAND, LOT, ('b', 'c'))
+        takes_arguments(self, is_ring, STUCK, STAND, LOT, ('c', 'top'))
+        takes_arguments(self, greatest_ring, TREE, STAND, LOT)
+        takes_arguments(self, inner_rings, TREE, STAND, LOT)
         refuses(self, NotUsable, {'word': 'lot', 'at': -1}, is_ring, NEAR, BOTH, (*SWAP, ('b', 'a')), None)
 
 

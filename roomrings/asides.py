@@ -1,0 +1,59 @@
+"""Files put aside for a while, so that all moves of a lot can be made."""
+
+from roomrings.ends import need_end
+from roomrings.goers import order_of
+from roomrings.lotchecker import need_all
+from roomrings.rings import inner_of
+from roomrings.ways import counts_after, entered_between, parents_of, without_one
+
+
+def fewest_aside(tree, stand, lot):
+    """The least number of files that have to be put aside."""
+    need_all(tree, stand, lot)
+    need_end(tree, stand, lot)
+    return len(inner_of(tree, stand, lot))
+
+
+def aside_plan(tree, stand, lot):
+    """Any plan of a lot in which so few files are put aside."""
+    need_all(tree, stand, lot)
+    need_end(tree, stand, lot)
+    return plan_of(tree, stand, lot)
+
+
+def plan_of(tree, stand, lot):
+    """A plan of a lot whose end fits: for each inner ring a file of it is put outside, and then no ring is left."""
+    parents = parents_of(tree)
+    away = [entry_of(parents, lot, ring) for ring in inner_of(tree, stand, lot)]
+    rest = lot
+    for move in away:
+        rest = without_one(rest, move)
+        stand = counts_after(tree, stand, [(move[0], "")])
+    comings = [("", target) for source, target in away]
+    order = order_of(tree, stand, [*rest, *comings])
+    return tuple([("out", source, target) for source, target in away] + steps_along(order, away))
+
+
+def entry_of(parents, moves, ring):
+    """The first of these moves that enters a folder of a ring."""
+    first = [move for move in moves if meets_ring(parents, move, ring)]
+    return first[0]
+
+
+def meets_ring(parents, move, ring):
+    """Whether a move enters a folder of a ring."""
+    return any([name in ring for name in entered_between(parents, move[0], move[1])])
+
+
+def steps_along(order, away):
+    """A list of the steps of an order in which the files of the moves that are away come from outside."""
+    waiting = list(away)
+    steps = []
+    for source, target in order:
+        brought = [move for move in waiting if source == "" and move[1] == target]
+        if brought == []:
+            steps.append(("go", source, target))
+        else:
+            steps.append(("in", brought[0][0], target))
+            waiting.remove(brought[0])
+    return steps
