@@ -29,9 +29,11 @@ def plan_of(tree, stand, lot):
     for move in away:
         rest = without_one(rest, move)
         stand = counts_after(tree, stand, [(move[0], "")])
-    comings = [("", target) for source, target in away]
-    order = order_of(tree, stand, [*rest, *comings])
-    return tuple([("out", source, target) for source, target in away] + steps_along(order, away))
+    # a target tells whose file comes back there: no two inner rings have a spot in common,
+    # and no move of the lot comes from outside to a spot within one
+    sources = {target: source for source, target in away}
+    order = order_of(tree, stand, [*rest, *[("", target) for target in sources]])
+    return tuple([("out", source, target) for source, target in away] + [step_of(move, sources) for move in order])
 
 
 def entry_of(parents, moves, ring):
@@ -45,15 +47,9 @@ def meets_ring(parents, move, ring):
     return any([name in ring for name in entered_between(parents, move[0], move[1])])
 
 
-def steps_along(order, away):
-    """A list of the steps of an order in which the files of the moves that are away come from outside."""
-    waiting = list(away)
-    steps = []
-    for source, target in order:
-        brought = [move for move in waiting if source == "" and move[1] == target]
-        if brought == []:
-            steps.append(("go", source, target))
-        else:
-            steps.append(("in", brought[0][0], target))
-            waiting.remove(brought[0])
-    return steps
+def step_of(move, sources):
+    """The step of a move, or the one that brings the file that was put outside on its way to the same target."""
+    source, target = move
+    if source == "" and target in sources:
+        return ("in", sources[target], target)
+    return ("go", source, target)

@@ -310,7 +310,11 @@ class AsideChecker(unittest.TestCase):
             for other in (('a', 'b'), ('p', 'q'), ('a', 'q'), ('b', 'p'), ('c', 'd')):
                 self.wrong('around', 2, ('aside', steps, (ring, ('c', 'd'), other)), tree, stand, lot)
         self.wrong('many', -1, ('aside', steps, (('a', 'b'),)), tree, stand, lot)
-        self.wrong('around', 1, ('aside', steps, (('a', 'b', 'c', 'd'), ('c', 'd'))), tree, stand, lot)
+        # just some of the folders are around others, or within them
+        whole = ('a', 'b', 'c', 'd')
+        for ring in (('a', 'b'), ('p', 'q'), ('a', 'q'), ('c', 'd')):
+            self.wrong('around', 1, ('aside', steps, (ring, whole)), tree, stand, lot)
+            self.wrong('around', 1, ('aside', steps, (whole, ring)), tree, stand, lot)
 
     def test_many(self):
         self.wrong('many', -1, ('aside', OUT, ()))

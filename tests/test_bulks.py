@@ -88,6 +88,13 @@ class Bulks(unittest.TestCase):
                 self.wrong('bulk', k, (*BULKS[:k], thing, *BULKS[k:]))
             self.wrong('bulk', 0, (thing, thing))
 
+    def test_each_value_in_each_place(self):
+        for thing in [*ODD, Other()]:
+            for bulks in ((thing,), ((thing, 'b', 1),), (('a', thing, 1),), (('a', 'b', thing),), (('a', 'b', 1, thing),),
+                          (('', 'a', 1), ('a', 'b', thing)), (('', thing, 1), ('a', 'b', 1)), thing):
+                self.judge(TREE, STAND, bulks)
+                self.judge(TREE, (2, 0, 0, 1), bulks)
+
     def test_the_order_of_the_pairs(self):
         self.wrong('bulk', 1, (('b', 'a', 1), ('a', 'b', 1)))
         self.wrong('bulk', 1, (('a', 'b', 1), ('a', 'b', 2)))
