@@ -53,9 +53,13 @@ def greatest_of(tree, stand, moves):
 
 def inner_of(tree, stand, moves):
     """The set of all inner rings of the stand and these moves."""
-    parents = parents_of(tree)
+    return inner_among(parents_of(tree), full_of(tree, stand), moves)
+
+
+def inner_among(parents, full, moves):
+    """The set of those rings of these full folders, and of no others, that have none of them within."""
     pairs = both_ways(parents, moves)
-    names = possible(full_of(tree, stand), pairs)
+    names = possible(full, pairs)
     rings = [uppermost(parents, grown(name, names, pairs)) for name in names]
     return tuple(sorted(set([ring for ring in rings if is_least(parents, ring, rings)])))
 

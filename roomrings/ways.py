@@ -89,3 +89,8 @@ def entered_between(parents, source, target):
     """The set of the folders that are around target and not around source."""
     behind = way_from(parents, source)
     return tuple(sorted([name for name in way_from(parents, target) if name not in behind]))
+
+
+def with_more_room(tree, folders):
+    """The tree in which each of these folders has one place more."""
+    return tuple([(name, parent, room + 1 if name in folders else room) for name, parent, room in tree])

@@ -1,5 +1,6 @@
 """Plain second readings of the document, slow and by its words, and random values to try them with."""
 
+import itertools
 import string
 
 SIX = ('a', 'ab', 'b', 'cd', 'e', 'zz')
@@ -328,3 +329,118 @@ def fewest_outs(tree, stand, lot):
                     (later if step[0] == 'out' else ahead).append(found)
         ahead, outs = later, outs + 1
     return None
+
+
+def some_stuck(pick, names=SIX, most=8):
+    """A random deep tree whose folders are nearly all full, a stand of it, and a lot of rounds of moves among them."""
+    names = sorted(pick.sample(names, pick.randrange(len(names) - 1, len(names) + 1)))
+    mixed = pick.sample(names, len(names))
+    shape = sorted((name, pick.choice(['', *mixed[:k], *mixed[max(0, k - 2):k]])) for k, name in enumerate(mixed))
+    stand = tuple(pick.choice((1, 1, 1, 2)) for _ in shape)
+    wide = tuple((*row, 0) for row in shape)
+    tree = tuple((*row, uses(wide, stand, row[0]) + (pick.random() < 0.1)) for row in shape)
+    lot = ()
+    for _ in range(pick.randrange(2, 5)):
+        round_about = pick.sample(names, min(len(names), pick.choice((2, 2, 2, 3))))
+        longer = tuple(sorted([*lot, *zip(round_about, [*round_about[1:], round_about[0]])]))
+        if len(longer) <= most and lot_fault(tree, stand, longer) is None:
+            lot = longer
+    return tree, stand, lot
+
+
+def wider(tree, folders):
+    """The tree in which each of the folders has one place more."""
+    return tuple((*row[:2], row[2] + (row[0] in folders)) for row in tree)
+
+
+def most_apart(rings):
+    """How many of these rings there are at most no two of which have a folder in common."""
+    if not rings:
+        return 0
+    first, *others = rings
+    return max(most_apart(others), 1 + most_apart([ring for ring in others if not set(ring) & set(first)]))
+
+
+def fewest_wider(tree, barred):
+    """The least number of folders such that nothing is barred in the tree in which they are widened."""
+    names = [row[0] for row in tree]
+    return next(many for many in range(len(names) + 1)
+                if any(not barred(wider(tree, folders)) for folders in itertools.combinations(names, many)))
+
+
+def is_word(thing, word):
+    return thing.__class__ is str and thing == word
+
+
+def order_fault(tree, stand, lot, moves):
+    left = list(lot)
+    for k, move in enumerate(moves):
+        if not is_plain_move(tree, move) or move not in left or not can_go(tree, stand, move):
+            return 'move', k
+        left.remove(move)
+        stand = after(tree, stand, move)
+    return ('lot', -1) if left else None
+
+
+def is_set_of_names(tree, thing):
+    names = [row[0] for row in tree]
+    return (thing.__class__ is tuple and all(name.__class__ is str and name in names for name in thing)
+            and list(thing) == sorted(set(thing)))
+
+
+def asked_fault(tree, stand, lot, thing):
+    """What is wrong first in a value as moves that are asked, by the words of the document; None for such moves."""
+    if thing.__class__ is not tuple:
+        return 'shape', -1
+    left = list(lot)
+    for k, move in enumerate(thing):
+        if not is_plain_move(tree, move) or move not in left or (k and move < thing[k - 1]):
+            return 'move', k
+        left.remove(move)
+    for name, _, room in tree:
+        if held(tree, stand, thing, name) > room:
+            return 'full', name
+    return None
+
+
+def held(tree, stand, asked, folder):
+    """How many places of a folder are used, and held by moves that are asked."""
+    return uses(tree, stand, folder) + len([move for move in asked if folder in entered(tree, move)])
+
+
+def ask_taken(tree, state, step):
+    """What is not asked, what is asked, and the stand after a step "ask" or "done"; None if it is not possible."""
+    left, asked, stand = state
+    word, move = step[0], step[1:]
+    rooms = {row[0]: row[2] for row in tree}
+    if word == 'ask' and move in left and all(held(tree, stand, asked, name) < rooms[name]
+                                              for name in entered(tree, move)):
+        return less(left, move), tuple(sorted([*asked, move])), stand
+    if word == 'done' and move in asked:
+        return left, less(asked, move), after(tree, stand, move)
+    return None
+
+
+def can_finish(tree, state):
+    """Whether all moves can be asked and done, looked for among all steps."""
+    ahead, met = [state], {state}
+    while ahead:
+        state = ahead.pop()
+        if not state[0] and not state[1]:
+            return True
+        for step in [('ask', *move) for move in set(state[0])] + [('done', *move) for move in set(state[1])]:
+            later = ask_taken(tree, state, step)
+            if later is not None and later not in met:
+                met.add(later)
+                ahead.append(later)
+    return False
+
+
+def some_asked(pick, tree, stand, lot):
+    """Random moves of a lot that can be asked."""
+    asked = ()
+    for move in pick.sample(lot, pick.randrange(len(lot) + 1)):
+        longer = tuple(sorted([*asked, move]))
+        if asked_fault(tree, stand, lot, longer) is None:
+            asked = longer
+    return asked

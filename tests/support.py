@@ -101,6 +101,8 @@ FAULTS = {
     'stand': lambda thing: plain.stand_fault(TREE, thing) and ('stand', -1),
     'lot': lambda thing: plain.lot_fault(TREE, STAND, thing) and ('lot', -1),
     'move': lambda thing: None if plain.is_plain_move(TREE, thing) else ('move', thing),
+    'folder': lambda thing: None if plain.is_plain_spot(TREE, thing) and thing else ('folder', thing),
+    'asked': lambda thing: plain.asked_fault(TREE, STAND, LOT, thing) and ('asked', -1),
 }
 ALMOST = [LOT[::-1], (('c', 'a'), ('c', 'b')), (('a', 'x'),), (('', 'x'),), ('a', 'x'), ('x', 'a'), (2, 1, 1, 1),
         (1, 1, 1, -1), (0, 2, 0, 0), (*TREE[:3], ('top', 'a', 3)), (*TREE, ('z', 'y', 1))]

@@ -24,6 +24,7 @@ BARRED = set('''register mro elements open input law version_info with_traceback
 WORDS = set('''typing typing_extensions enum Enum IntEnum StrEnum Flag IntFlag Generic Protocol ABC ABCMeta namedtuple
     NamedTuple TypedDict TYPE_CHECKING abstractmethod dataclass overload contextmanager type Meta'''.split())
 CHANGING = set('append clear extend insert pop remove reverse setdefault update sort add discard'.split())
+NO_OPERATORS = ('__init__', '__enter__', '__exit__', '__call__')
 LIBRARY = {'heapq', 'math', 'itertools'}
 STATEMENTS = (ast.Global, ast.AsyncFunctionDef, ast.AsyncFor, ast.AsyncWith, ast.Await, ast.Import)
 
@@ -36,12 +37,14 @@ def nodes(kind):
 
 
 def bound_names(tree):
-    """Names of parameters, of what is assigned to, and of functions, wherever they stand."""
+    """Names of parameters, of what is assigned to, and of errors that are caught, wherever they stand."""
     for node in ast.walk(tree):
         if isinstance(node, ast.arg):
             yield node.arg
         elif isinstance(node, ast.Name) and isinstance(node.ctx, ast.Store):
             yield node.id
+        elif isinstance(node, ast.ExceptHandler) and node.name is not None:
+            yield node.name
 
 
 def run_by_operators():
@@ -50,7 +53,7 @@ def run_by_operators():
     for name, node in nodes((ast.FunctionDef, ast.ClassDef)):
         at_name.setdefault(node.name, []).append((name, node))
     ahead = [(name, node) for name, node in nodes(ast.FunctionDef)
-             if (node.name.startswith('__') and node.name != '__init__')
+             if (node.name.startswith('__') and node.name not in NO_OPERATORS)
              or any(decorator.id == 'property' for decorator in node.decorator_list)]
     met = []
     while ahead:
@@ -192,6 +195,44 @@ class Language(unittest.TestCase):
                 self.assertIn(decorator.id, {'property', 'staticmethod', 'classmethod'})
         for name, node in nodes(ast.ClassDef):
             self.assertEqual(node.decorator_list, [], name)
+
+    def test_names_of_methods_properties_and_attributes_differ(self):
+        methods, properties, attributes = set(), set(), set()
+        for name, node in nodes(ast.ClassDef):
+            defined = [part for part in node.body if isinstance(part, ast.FunctionDef)]
+            self.assertEqual(len(defined), len({part.name for part in defined}), f'{name}: {node.name}')
+            for part in defined:
+                kind = properties if any(one.id == 'property' for one in part.decorator_list) else methods
+                kind.add(part.name)
+            attributes |= {part.attr for part in ast.walk(node)
+                           if isinstance(part, ast.Attribute) and isinstance(part.ctx, ast.Store)}
+        self.assertEqual([methods & properties, methods & attributes, properties & attributes], [set()] * 3)
+
+    def test_names_of_classes_are_read_off_objects(self):
+        for name, node in nodes(ast.Attribute):
+            if node.attr == '__name__':
+                self.assertEqual(node.value.attr, '__class__', name)
+                self.assertIsInstance(node.value.value, ast.Name)
+            else:
+                self.assertTrue(not node.attr.startswith('__') or node.attr in ('__class__', '__init__'), name)
+
+    def test_super_calls_methods(self):
+        for name, node in nodes(ast.Attribute):
+            if isinstance(node.value, ast.Call) and getattr(node.value.func, 'id', '') == 'super':
+                self.assertEqual(node.value.args, [], name)
+        calls = [ast.unparse(node) for _, node in nodes(ast.Call)]
+        self.assertEqual(len([call for call in calls if call == 'super()']),
+                         len([call for call in calls if call.startswith('super().')]))
+
+    def test_nothing_is_done_at_last_but_plain_assignments(self):
+        for name, node in nodes(ast.Try):
+            self.assertEqual(node.finalbody, [], f'{name}: line {node.lineno}')
+        for name, node in nodes(ast.FunctionDef):
+            if node.name == '__exit__':
+                for row in node.body:
+                    self.assertIsInstance(row, ast.Assign, name)
+                    self.assertIsInstance(row.targets[0], ast.Attribute, name)
+                    self.assertIsInstance(row.value, ast.Constant, name)
 
     def test_any_and_its_kin_take_lists(self):
         for name, node in nodes(ast.Call):

@@ -16,37 +16,17 @@ from roomrings.lotpapers import lot_paper
 GOOD = ('order', (('c', 'a'), ('b', 'c'), ('a', 'b')))
 
 
-def is_word(thing, word):
-    return thing.__class__ is str and thing == word
-
-
-def order_fault(tree, stand, lot, moves):
-    left = list(lot)
-    for k, move in enumerate(moves):
-        if not plain.is_plain_move(tree, move) or move not in left or not plain.can_go(tree, stand, move):
-            return 'move', k
-        left.remove(move)
-        stand = plain.after(tree, stand, move)
-    return ('lot', -1) if left else None
-
-
-def is_set_of_names(tree, thing):
-    names = [row[0] for row in tree]
-    return (thing.__class__ is tuple and all(name.__class__ is str and name in names for name in thing)
-            and list(thing) == sorted(set(thing)))
-
-
 def paper_fault(tree, stand, lot, thing):
     """What is wrong first in a value as a paper, by the words of the document; None for a paper."""
     if thing.__class__ is not tuple or len(thing) != 2:
         return 'shape', -1
     word, shown = thing
-    if is_word(word, 'order') and shown.__class__ is tuple:
-        return order_fault(tree, stand, lot, shown)
-    if is_word(word, 'ring'):
-        good = is_set_of_names(tree, shown) and plain.is_ring(tree, stand, lot, shown)
+    if plain.is_word(word, 'order') and shown.__class__ is tuple:
+        return plain.order_fault(tree, stand, lot, shown)
+    if plain.is_word(word, 'ring'):
+        good = plain.is_set_of_names(tree, shown) and plain.is_ring(tree, stand, lot, shown)
         return None if good else ('ring', -1)
-    if is_word(word, 'end'):
+    if plain.is_word(word, 'end'):
         crowded = plain.crowded(tree, plain.at_end(tree, stand, lot))
         return None if shown.__class__ is str and shown in crowded else ('end', -1)
     return 'shape', -1
