@@ -1,10 +1,11 @@
 """Papers that tell how few files have to be put aside, judged."""
 
+from roomrings.courses import course_after, hindrance, rest_of
 from roomrings.errors import InvalidPaper
+from roomrings.logkinds import is_event
 from roomrings.lotchecker import need_all
-from roomrings.moving import goes
 from roomrings.rings import makes_ring, meets
-from roomrings.ways import counts_after, parents_of, way_from, without_one
+from roomrings.ways import parents_of, way_from
 
 
 def lets_aside(tree, stand, lot, thing):
@@ -38,42 +39,12 @@ def outs_among(steps):
 
 def steps_fault(tree, stand, lot, steps):
     """The first fault of a tuple of any values as the steps of a plan of a lot."""
-    left = lot
-    away = ()
+    course = (stand, lot, ())
     for k, step in enumerate(steps):
-        if not can_step(tree, stand, left, away, step):
+        if not is_event(step) or hindrance(tree, course, step) is not None:
             return ("step", k)
-        word, move = step[0], step[1:]
-        if word == "in":
-            away = without_one(away, move)
-        else:
-            left = without_one(left, move)
-        if word == "out":
-            away = (*away, move)
-        stand = counts_after(tree, stand, [way_taken(step)])
-    return None if left == () and away == () else ("lot", -1)
-
-
-def can_step(tree, stand, left, away, step):
-    """Whether any value is a step that is possible with these moves left, and the files of these outside."""
-    if not isinstance(step, tuple) or len(step) != 3:
-        return False
-    word, move = step[0], step[1:]
-    if word not in ("go", "out", "in") or move not in (away if word == "in" else left):
-        return False
-    if word == "out" and "" in move:
-        return False
-    return goes(tree, stand, way_taken(step))
-
-
-def way_taken(step):
-    """The move that the file makes in a step."""
-    word, source, target = step
-    if word == "out":
-        return (source, "")
-    if word == "in":
-        return ("", target)
-    return (source, target)
+        course = course_after(tree, course, step)
+    return None if rest_of(course) == () else ("lot", -1)
 
 
 def rings_fault(tree, stand, lot, rings):

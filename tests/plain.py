@@ -444,3 +444,101 @@ def some_asked(pick, tree, stand, lot):
         if asked_fault(tree, stand, lot, longer) is None:
             asked = longer
     return asked
+
+
+def is_event(thing):
+    """Whether a value is an event by form."""
+    def is_spot(spot):
+        return is_plain_name(spot) or is_word(spot, '')
+    return (thing.__class__ is tuple and len(thing) == 3 and any(is_word(thing[0], word) for word in ('go', 'out', 'in'))
+            and is_spot(thing[1]) and is_spot(thing[2]) and thing[1] != thing[2])
+
+
+def is_log(thing):
+    """Whether a value is a log, by the words of the document."""
+    if thing.__class__ is not tuple or not thing or thing[0].__class__ is not tuple or len(thing[0]) != 4:
+        return False
+    word, tree, stand, lot = thing[0]
+    good = (is_word(word, 'moving') and not tree_fault(tree) and not stand_fault(tree, stand)
+            and not lot_fault(tree, stand, lot))
+    return good and all(is_event(event) for event in thing[1:])
+
+
+def rest_of(left, away):
+    """What is to be done yet: the moves that are left, and one from outside for each file that was put there."""
+    return tuple(sorted([*left, *[('', target) for _, target in away]]))
+
+
+def state_of(tree, stand, rest):
+    if not rest:
+        return 'done'
+    if crowded(tree, at_end(tree, stand, rest)):
+        return 'end'
+    return 'ring' if all_rings(tree, stand, rest) else 'going'
+
+
+class Walk:
+    """A second moving: what it is now is found anew from its events each time."""
+
+    def __init__(self, tree, stand, lot, is_guarded=False):
+        self.tree, self.start, self.is_guarded = tree, (lot, (), stand), is_guarded
+        self.events, self.is_shut, self.calls = [], False, 0
+
+    def course(self, *more):
+        """What is left, what is away, and the stand, after these events, too."""
+        state = self.start
+        for event in [*self.events, *more]:
+            state = step_taken(self.tree, state, event)
+        return state
+
+    def ring(self, *more):
+        left, away, stand = self.course(*more)
+        return greatest(self.tree, all_rings(self.tree, stand, rest_of(left, away)))
+
+    def shown(self, *more):
+        """Stand, rest and state after these events, too."""
+        left, away, stand = self.course(*more)
+        rest = rest_of(left, away)
+        return stand, rest, state_of(self.tree, stand, rest)
+
+    def reason(self, event, *ahead):
+        """The reason for which a value is refused after these events, None for one that is possible."""
+        if not is_event(event):
+            return 'shape'
+        if self.is_shut:
+            return 'closed'
+        if len(self.events) + len(ahead) >= 40:
+            return 'full'
+        left, away, stand = self.course(*ahead)
+        word, *move = event
+        if tuple(move) not in (away if word == 'in' else left) or (word == 'out' and '' in move):
+            return 'none'
+        if step_taken(self.tree, (left, away, stand), event) is None:
+            return 'room'
+        return 'ring' if self.is_guarded and word != 'out' and self.ring(*ahead, event) else None
+
+    def refused(self, events):
+        """The index of the first of these events that is refused, and its reason; None if none is."""
+        for k, event in enumerate(events):
+            why = self.reason(event, *events[:k])
+            if why is not None:
+                return k, why
+        return None
+
+    def log(self):
+        lot, _, stand = self.start
+        return ('moving', self.tree, stand, lot), *self.events
+
+
+def some_event(pick, walk, odd=()):
+    """A random event: often one of a move that is left or away, sometimes another one, or an odd value."""
+    left, away, _ = walk.course()
+    spots = ['', *[row[0] for row in walk.tree]]
+    way = pick.random()
+    if odd and way < 0.05:
+        return pick.choice(odd)
+    if away and way < 0.5:
+        return ('in', *pick.choice(away))
+    if left and way < 0.95:
+        return (pick.choice(('go', 'go', 'out')), *pick.choice(left))
+    return (pick.choice(('go', 'out', 'in')), *pick.sample(spots, 2))

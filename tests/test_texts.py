@@ -5,6 +5,7 @@ import re
 import unittest
 
 import plain
+import plaintexts
 from support import BIG, LOT, ODD, STAND, TREE, Other, gives, parameters, refuses
 
 from roomrings.errors import InvalidText, NotUsable
@@ -13,9 +14,6 @@ from roomrings.treereadings import lot_read, move_read, stand_read, tree_read
 from roomrings.treetexts import lot_words, move_words, stand_words, tree_text
 
 READERS = [tree_read, stand_read, move_read, lot_read]
-NUMBER = '(0|[1-9][0-9]{0,59})'
-SPOT = '(-|[a-z]{1,8})'
-TAIL = ('folder', 'zzzzzzzz', 'in', '-', 'room', '0')
 
 
 class Writers(unittest.TestCase):
@@ -188,46 +186,6 @@ class Readers(unittest.TestCase):
         self.fault(tree_read, 'folder \u00e9 in - room 1', 0, 1)
 
 
-def line_fault(words, last):
-    """A word cannot stand if the line is not possible whatever is behind it."""
-    for many in range(1, len(words) + 1):
-        text = ' '.join([*words[:many], *TAIL[many:]])
-        found = re.fullmatch(f'folder ([a-z]{{1,8}}) in {SPOT} room {NUMBER}', text)
-        if not found or not found[1] > last or found[1] == found[2]:
-            return many - 1
-    return len(words) if len(words) < 6 else None
-
-
-def tree_text_fault(text):
-    last, rows = '', []
-    for line, written in enumerate(text.split('\n')):
-        field = line_fault(written.split(' '), last)
-        if field is not None:
-            return line, field
-        last = written.split(' ')[1]
-        rows.append((last, written.split(' ')[3].replace('-', ''), int(written.split(' ')[5])))
-    found = plain.tree_fault(tuple(rows))
-    return (found[1], 3) if found else tuple(rows)
-
-
-def lot_of(text):
-    """The lot that a text writes, None if it writes none."""
-    if text == '-':
-        return ()
-    if not re.fullmatch(f'{SPOT}>{SPOT}( {SPOT}>{SPOT})*', text):
-        return None
-    moves = tuple(tuple(word.replace('-', '').split('>')) for word in text.split(' '))
-    return moves if sorted(moves) == list(moves) and all(source != target for source, target in moves) else None
-
-
-def lot_text_fault(text):
-    words = text.split(' ')
-    for many in range(1, len(words) + 1):
-        if lot_of(' '.join(words[:many])) is None:
-            return 0, many - 1
-    return lot_of(text)
-
-
 class RandomTexts(unittest.TestCase):
 
     def tried(self, call, plain_call, text):
@@ -238,50 +196,34 @@ class RandomTexts(unittest.TestCase):
         gives(self, found, call, text)
         return 0
 
-    def changed(self, pick, text):
-        for _ in range(pick.randrange(1, 3)):
-            k = pick.randrange(len(text) + 1)
-            way = pick.randrange(4)
-            if way == 0:
-                text = text[:k] + pick.choice(' \n->0123abtopzA') + text[k:]
-            elif way == 1:
-                text = text[:k] + text[k + 1:]
-            elif way == 2:
-                text = text[:k] + pick.choice(' \n->0123abtopzA') + text[k + 1:]
-            else:
-                words = text.split(' ')
-                words.insert(pick.randrange(len(words) + 1), pick.choice([*words, '', '-', '01', 'a', 'a>b']))
-                text = ' '.join(words)
-        return text
-
     def test_trees(self):
         pick = random.Random(25)
         faults = 0
         for _ in range(3000):
-            text = self.changed(pick, tree_text(plain.some_tree(pick, plain.SIX)))
-            faults += self.tried(tree_read, tree_text_fault, text)
+            text = plaintexts.changed(pick, tree_text(plain.some_tree(pick, plain.SIX)))
+            faults += self.tried(tree_read, plaintexts.tree_text_fault, text)
         self.assertIn(faults, range(1000, 2990))
 
     def test_trees_with_other_parents(self):
         pick = random.Random(26)
         for _ in range(1000):
             rows = [f'folder {name} in {pick.choice(["-", *plain.SIX])} room 1' for name in plain.SIX[:pick.randrange(1, 7)]]
-            self.tried(tree_read, tree_text_fault, '\n'.join(rows))
+            self.tried(tree_read, plaintexts.tree_text_fault, '\n'.join(rows))
 
     def test_lots(self):
         pick = random.Random(27)
         faults = 0
         for _ in range(3000):
-            text = self.changed(pick, lot_words(plain.some_moves(pick, TREE, 5)))
-            faults += self.tried(lot_read, lot_text_fault, text)
+            text = plaintexts.changed(pick, lot_words(plain.some_moves(pick, TREE, 5)))
+            faults += self.tried(lot_read, plaintexts.lot_text_fault, text)
         self.assertIn(faults, range(1000, 2990))
 
     def test_stands(self):
         pick = random.Random(28)
         for _ in range(3000):
-            text = self.changed(pick, stand_words(tuple(pick.randrange(30) for _ in range(pick.randrange(1, 5)))))
+            text = plaintexts.changed(pick, stand_words(tuple(pick.randrange(30) for _ in range(pick.randrange(1, 5)))))
             words = text.split(' ')
-            wrong = [field for field, word in enumerate(words) if not re.fullmatch(NUMBER, word)]
+            wrong = [field for field, word in enumerate(words) if not re.fullmatch(plaintexts.NUMBER, word)]
             if wrong:
                 refuses(self, InvalidText, {'line': 0, 'field': wrong[0]}, stand_read, text)
             else:
@@ -290,9 +232,9 @@ class RandomTexts(unittest.TestCase):
     def test_moves(self):
         pick = random.Random(29)
         for _ in range(3000):
-            text = self.changed(pick, move_words(tuple(pick.sample(['', 'a', 'b', 'top'], 2))))
+            text = plaintexts.changed(pick, move_words(tuple(pick.sample(['', 'a', 'b', 'top'], 2))))
             words = text.split(' ')
-            first = lot_of(words[0]) or None
+            first = plaintexts.lot_of(words[0]) or None
             if first is None or len(words) > 1:
                 refuses(self, InvalidText, {'line': 0, 'field': 0 if first is None else 1}, move_read, text)
             else:
