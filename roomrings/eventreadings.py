@@ -12,9 +12,7 @@ def read_event(line):
     words = line.split(" ")
     if words[0] not in EVENT_WORDS:
         raise InvalidText(0, 0)
-    if len(words) == 1:
-        raise InvalidText(0, 1)
-    # what stands behind the word is a move, whose first word is the second one of the line
+    # what stands behind the word is a move; without anything there this is the empty string, which writes none
     try:
         move = move_read(" ".join(words[1:]))
     except InvalidText as e:

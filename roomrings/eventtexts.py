@@ -9,7 +9,8 @@ def event_line(event):
     """The line of an event by form."""
     if not is_event(event):
         raise NotUsable("event", -1)
-    return f"{event[0]} {move_words(event[1:])}"
+    word = move_words(event[1:])
+    return f"{event[0]} {word}"
 
 
 def log_lines(log):

@@ -1,4 +1,7 @@
-"""Levels of what is asked of a lot: that its end fits, that some order goes, that every order goes."""
+"""Levels of what is asked of a lot: that its end fits, that some order goes, that every order goes.
+
+All that the interface lists for the levels stands in each of the classes, also where it says the same again.
+"""
 
 from roomrings.ends import fits, misfits
 from roomrings.everyorder import every_order, refused_order

@@ -88,8 +88,8 @@ class Moving:
 
     def tried(self, *events):
         """What stand, rest and state would be after these events; nothing changes."""
-        courses = self._courses[-1:] + self._courses_after(events)
-        return (courses[-1][0], rest_of(courses[-1]), state_of(self._tree, courses[-1]))
+        course = self._courses_with(events)[-1]
+        return (course[0], rest_of(course), state_of(self._tree, course))
 
     def undo(self):
         """Takes back the last event, and returns it."""
@@ -115,8 +115,8 @@ class Moving:
 
     def take(self, events):
         """Applies all of a tuple of events, or none; tally does not count it."""
-        courses = self._courses_after(events)
-        self._courses.extend(courses)
+        courses = self._courses_with(events)
+        self._courses.extend(courses[1:])
         self._events.extend(events)
 
     def tally(self):
@@ -175,10 +175,10 @@ class Moving:
             raise InvalidEvent(event, reason)
         return course_after(self._tree, course, event)
 
-    def _courses_after(self, events):
-        """A list of the courses after each of these events, or the error of the first one that is refused."""
-        courses = self._courses[-1:]
+    def _courses_with(self, events):
+        """A list of the course now and those after each of these events, or the error of the first that is refused."""
+        courses = [self._courses[-1]]
         for event in events:
             many = len(self._events) + len(courses) - 1
             courses.append(self._course_after(courses[-1], many, event))
-        return courses[1:]
+        return courses

@@ -117,6 +117,11 @@ class Levels(unittest.TestCase):
                 self.assertIs(thing == level, False)
                 self.assertIs(level != thing, True)
 
+    def test_another_class_of_the_same_name(self):
+        for made in CLASSES:
+            other = type(made.__name__, (), {'_tree': TREE, '_stand': STAND, 'tree': TREE, 'stand': STAND})()
+            self.assertIs(made(TREE, STAND) == other, False)
+
     def test_a_level_stays_as_it_was(self):
         for made in CLASSES:
             level = made(STUCK, STAND)
