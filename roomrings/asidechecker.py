@@ -1,6 +1,6 @@
 """Papers that tell how few files have to be put aside, judged."""
 
-from roomrings.courses import course_after, hindrance, rest_of
+from roomrings.asides import course_after, hindrance, rest_of
 from roomrings.errors import InvalidPaper
 from roomrings.logkinds import is_event
 from roomrings.lotchecker import need_all

@@ -1,8 +1,13 @@
-"""Files put aside for a while, so that all moves of a lot can be made."""
+"""Files put aside for a while, so that all moves of a lot can be made.
+
+Steps take one course to the next. A course is a triple: the stand, the lot of the moves that are left, and the sorted
+tuple of those whose files were put outside. Events of movings are such steps, too.
+"""
 
 from roomrings.ends import need_end
 from roomrings.goers import order_of
 from roomrings.lotchecker import need_all
+from roomrings.moving import goes
 from roomrings.rings import inner_of
 from roomrings.ways import counts_after, entered_between, parents_of, without_one
 
@@ -53,3 +58,43 @@ def step_of(move, sources):
     if source == "" and target in sources:
         return ("in", sources[target], target)
     return ("go", source, target)
+
+
+def hindrance(tree, course, step):
+    """The reason for which a step by form is not possible on a course, None for one that is."""
+    stand, left, away = course
+    word, source, target = step
+    if (source, target) not in (away if word == "in" else left):
+        return "none"
+    if word == "out" and "" in (source, target):
+        return "none"
+    return None if goes(tree, stand, way_taken(step)) else "room"
+
+
+def course_after(tree, course, step):
+    """The course after a step that is possible."""
+    stand, left, away = course
+    word, source, target = step
+    if word == "in":
+        away = without_one(away, (source, target))
+    else:
+        left = without_one(left, (source, target))
+    if word == "out":
+        away = tuple(sorted([*away, (source, target)]))
+    return (counts_after(tree, stand, [way_taken(step)]), left, away)
+
+
+def way_taken(step):
+    """The move that the file makes in a step."""
+    word, source, target = step
+    if word == "out":
+        return (source, "")
+    if word == "in":
+        return ("", target)
+    return (source, target)
+
+
+def rest_of(course):
+    """The lot of all that is to be done yet: the moves that are left, and those that bring what was put outside."""
+    left, away = course[1:]
+    return tuple(sorted([*left, *[("", target) for _, target in away]]))

@@ -1,8 +1,8 @@
 """Movings with a guard, who lets no event that brings a file to a stand with a ring."""
 
-from roomrings.courses import course_after, ring_on
+from roomrings.asides import course_after
 from roomrings.errors import Barred
-from roomrings.movings import Moving
+from roomrings.movings import Moving, ring_on
 
 
 class Guarded(Moving):

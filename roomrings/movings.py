@@ -1,10 +1,11 @@
 """Movings: the moves of a lot are made one by one, some of them in two steps."""
 
-from roomrings.courses import course_after, hindrance, rest_of, ring_on, state_of
+from roomrings.asides import course_after, hindrance, rest_of
+from roomrings.ends import overfull_at_end
 from roomrings.errors import InvalidEvent, NothingToUndo, NotUsable
 from roomrings.logkinds import is_event
 from roomrings.lotchecker import need_all
-from roomrings.rings import inner_of
+from roomrings.rings import greatest_of, inner_of
 
 
 class Moving:
@@ -182,3 +183,18 @@ class Moving:
             many = len(self._events) + len(courses) - 1
             courses.append(self._course_after(courses[-1], many, event))
         return courses
+
+
+def ring_on(tree, course):
+    """The greatest ring of the stand and the rest, () if there is none."""
+    return greatest_of(tree, course[0], rest_of(course))
+
+
+def state_of(tree, course):
+    """The word for what a course has come to."""
+    rest = rest_of(course)
+    if rest == ():
+        return "done"
+    if overfull_at_end(tree, course[0], rest) != ():
+        return "end"
+    return "going" if ring_on(tree, course) == () else "ring"
